@@ -1,0 +1,1 @@
+"""Seats sold by messages between houses."""

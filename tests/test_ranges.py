@@ -1,0 +1,69 @@
+"""The refusal -2: each argument just below, at and just above its range, and -2 ahead of all other refusals."""
+
+import unittest
+
+from tests.helper import AGAIN, flight, last, lose, run, sell, shut
+
+FAR = 1000000000000
+
+# By the call's place: the call's name, its arguments within their ranges, and the ranges.
+CALLS = (
+    ("flight", (7, 3), ((1, 9999), (0, 999))),
+    ("cap", (7, 3), ((1, 9999), (0, 999))),
+    ("shut", (7,), ((1, 9999),)),
+    ("sell", (0, 7, 3), ((0, 3), (1, 9999), (1, 9))),
+    ("give_up", (0, 1), ((0, 3), (1, 999))),
+    ("deliver", (0,), ((0, 999999),)),
+    ("lose", (0,), ((0, 999999),)),
+    ("double", (0,), ((0, 999999),)),
+)
+
+
+def with_number(place, at, number):
+    numbers = list(CALLS[place][1])
+    numbers[at] = number
+    return [place, *numbers]
+
+
+class RangesTest(unittest.TestCase):
+    def test_out_of_range(self):
+        for place, (name, numbers, ranges) in enumerate(CALLS):
+            for at, (least, most) in enumerate(ranges):
+                for number in (least - 1, most + 1, -FAR, FAR):
+                    with self.subTest(call=name, argument=at, number=number):
+                        self.assertEqual(last(with_number(place, at, number)), [-2])
+
+    def test_at_the_ends_of_the_range(self):
+        for place, (name, numbers, ranges) in enumerate(CALLS):
+            for at, bounds in enumerate(ranges):
+                for number in bounds:
+                    with self.subTest(call=name, argument=at, number=number):
+                        self.assertNotEqual(last(with_number(place, at, number)), [-2])
+
+    def test_one_wrong_argument_is_enough(self):
+        self.assertEqual(run([3, 0, 7, 10], [3, 0, 0, 10], [3, 4, 0, 1], [3, -1, 0, 0]), [[-2]] * 4)
+
+    def test_comes_before_the_others(self):
+        twelve = [flight(f, 5) for f in range(1, 13)]
+        self.assertEqual(last(*twelve, [0, 5, 1000]), [-2])
+        self.assertEqual(last(*twelve, [0, 13, 1000]), [-2])
+        self.assertEqual(last([1, 7, 1000]), [-2])
+        self.assertEqual(last(flight(7, 3), shut(7), [1, 7, 1000]), [-2])
+        self.assertEqual(last(*[sell(0, 7, 1)] * 40, [3, 0, 7, 0]), [-2])
+        self.assertEqual(last([4, 4, 1]), [-2])
+        self.assertEqual(last([5, 1000000]), [-2])
+        self.assertEqual(last([6, -1]), [-2])
+        self.assertEqual(last(sell(0, 7, 1), *[[7, 0]] * 199, [7, 1000000]), [-2])
+
+    def test_changes_nothing(self):
+        wrong = [with_number(place, at, bounds[1] + 1)
+                 for place, (name, numbers, ranges) in enumerate(CALLS) for at, bounds in enumerate(ranges)]
+        self.assertEqual(run(*wrong, AGAIN, lose(0), flight(7, 3), sell(0, 7, 3))[len(wrong):],
+                         [[0, 0], [-4], [0], [0, 1]])
+
+    def test_a_number_below_0_is_no_place_counted_from_the_end(self):
+        self.assertEqual(run(sell(0, 7, 1), [5, -1], [6, -1], [7, -1], lose(0))[1:], [[-2], [-2], [-2], [0]])
+
+
+if __name__ == "__main__":
+    unittest.main()
