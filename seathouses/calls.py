@@ -3,14 +3,15 @@
 from seathouses.inventory import Flight, Inventory
 from seathouses.net import ST, Net
 from seathouses.resellers import Resellers
-from seathouses.standing import is_final
+from seathouses.standing import WAITING, is_final
+from seathouses.texts import read_text, written
 
-NO_SUCH_CALL = -1
 NO_SUCH_FLIGHT = -3
 NO_SUCH_SALE_OR_MESSAGE = -4
 THERE_ALREADY = -5
 FULL = -6
 NOT_AS_IT_MUST_BE = -7
+NO_MESSAGES_TEXT = -8
 
 MOST_FLIGHTS = 12
 MOST_SALES = 40
@@ -132,6 +133,89 @@ def call_again(houses, numbers):
     return [0, houses.net.sent - before]
 
 
+def call_calm(houses, numbers):
+    """9: no numbers."""
+    say_again(houses)
+    delivered = 0
+    while houses.net.has(0):
+        # All at once in the place of one by one: what is sent meanwhile comes behind these in either case.
+        for message in houses.net.take_all():
+            bring(houses, message)
+            delivered = delivered + 1
+    return [0, delivered]
+
+
+def call_view(houses, numbers):
+    """10: r, no."""
+    sale = houses.resellers.sales.get((numbers[0], numbers[1]))
+    if sale is None:
+        return [NO_SUCH_SALE_OR_MESSAGE]
+    return [0, sale.seen, sale.stood, 1 if sale.unwanted else 0, sale.f, sale.seats]
+
+
+def call_truth(houses, numbers):
+    """11: r, no."""
+    sale = houses.inventory.kept.get((numbers[0], numbers[1]))
+    if sale is None:
+        return [NO_SUCH_SALE_OR_MESSAGE]
+    return [0, sale.version, sale.stands, sale.known]
+
+
+def call_seats(houses, numbers):
+    """12: f."""
+    flight = houses.inventory.flights.get(numbers[0])
+    if flight is None:
+        return [NO_SUCH_FLIGHT]
+    return [0, flight.cap, houses.inventory.held_on(numbers[0]), 1 if flight.shut else 0]
+
+
+def call_line(houses, numbers):
+    """13: f."""
+    if numbers[0] not in houses.inventory.flights:
+        return [NO_SUCH_FLIGHT]
+    told = [0]
+    for sale in houses.inventory.sales_that(numbers[0], WAITING):
+        told.extend([sale.r, sale.no, sale.seats])
+    return told
+
+
+def call_net(houses, numbers):
+    """14: no numbers."""
+    return [0, len(houses.net.messages)]
+
+
+def call_text(houses, numbers):
+    """15: k."""
+    if not houses.net.has(numbers[0]):
+        return [NO_SUCH_SALE_OR_MESSAGE]
+    return [0] + written(houses.net.messages[numbers[0]])
+
+
+def call_read(houses, numbers):
+    """16: the bytes of a text."""
+    told = read_text(numbers)
+    if told is None:
+        return [NO_MESSAGES_TEXT]
+    return [0] + told
+
+
+def is_settled(own, kept):
+    """Whether both houses think the same of a sale, know that they do, and no wish to give it up is left."""
+    if kept is None:
+        return False
+    if own.seen != kept.version or own.stood != kept.stands or kept.known != kept.version:
+        return False
+    return is_final(kept.stands) or not own.unwanted
+
+
+def call_settled(houses, numbers):
+    """17: no numbers."""
+    for key, own in houses.resellers.sales.items():
+        if not is_settled(own, houses.inventory.kept.get(key)):
+            return [0, 0]
+    return [0, 1]
+
+
 CALLS = (
     call_flight,
     call_cap,
@@ -142,4 +226,13 @@ CALLS = (
     call_lose,
     call_double,
     call_again,
+    call_calm,
+    call_view,
+    call_truth,
+    call_seats,
+    call_line,
+    call_net,
+    call_text,
+    call_read,
+    call_settled,
 )

@@ -1,10 +1,12 @@
 """Takes a list of calls apart and answers them, one behind another."""
 
-from seathouses.calls import CALLS, NO_SUCH_CALL, Houses
+from seathouses.calls import CALLS, Houses
 
 OUT_OF_RANGE = -2
 
 READ = 16
+LONGEST_TEXT = 100
+GREATEST_BYTE = 255
 
 # By the call's place: the least and the greatest that each of its whole numbers may be.
 RANGES = (
@@ -45,8 +47,17 @@ def taken_apart(calls):
     return parts
 
 
+def is_text(numbers):
+    """Whether the numbers are bytes, and not too many."""
+    if len(numbers) > LONGEST_TEXT:
+        return False
+    return all([number >= 0 and number <= GREATEST_BYTE for number in numbers])
+
+
 def within_ranges(place, numbers):
-    """Whether each of the call's whole numbers is within its range."""
+    """Whether each of the call's numbers is within its range, and a text not too long."""
+    if place == READ:
+        return is_text(numbers)
     for number, bounds in zip(numbers, RANGES[place]):
         if number < bounds[0] or number > bounds[1]:
             return False
@@ -55,8 +66,6 @@ def within_ranges(place, numbers):
 
 def answer(houses, place, numbers):
     """What one call answers."""
-    if place >= len(CALLS):
-        return [NO_SUCH_CALL]
     if not within_ranges(place, numbers):
         return [OUT_OF_RANGE]
     return CALLS[place](houses, numbers)

@@ -29,3 +29,9 @@ class Net:
     def take(self, k):
         """Takes message k out and gives it back."""
         return self.messages.pop(k)
+
+    def take_all(self):
+        """Takes all messages out and gives them back, the first one first."""
+        taken = self.messages
+        self.messages = []
+        return taken

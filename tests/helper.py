@@ -40,6 +40,39 @@ def double(k):
 
 
 AGAIN = [8]
+CALM = [9]
+
+
+def view(r, no):
+    return [10, r, no]
+
+
+def truth(r, no):
+    return [11, r, no]
+
+
+def seats(f):
+    return [12, f]
+
+
+def line(f):
+    return [13, f]
+
+
+NET = [14]
+
+
+def text(k):
+    return [15, k]
+
+
+def read(signs):
+    """The call read of a text, which may be written as signs or as a list of numbers."""
+    numbers = [ord(sign) for sign in signs] if isinstance(signs, str) else list(signs)
+    return [16, len(numbers), *numbers]
+
+
+SETTLED = [17]
 
 
 def joined(calls):
@@ -82,6 +115,13 @@ def after(*calls):
 def messages(*calls):
     """The net behind the calls."""
     return after(*calls).net.messages
+
+
+def texts(*calls):
+    """The texts of all messages in the net behind the calls, as signs."""
+    size = last(*calls, NET)[1]
+    told = [last(*calls, text(k)) for k in range(size)]
+    return [bytes(numbers[1:]).decode("ascii") for numbers in told]
 
 
 def standings(*calls):
